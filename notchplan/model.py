@@ -6,6 +6,8 @@ MOST_CODES = 8
 MOST_ASKED = 1000
 MOST_COST = 1000000
 MOST_LETTERS = 12
+MOST_PRICE = 1000000000
+MOST_LABEL = 1000000000000
 
 
 class Code:
@@ -50,3 +52,18 @@ def with_code(fields, code):
     """The fields, the last of them with one more code behind its others."""
     last = fields[-1]
     return fields[:-1] + [Field(last.name, last.asked, last.codes + [code])]
+
+
+def without_field(fields, i):
+    """The fields but field i."""
+    return fields[:i] + fields[i + 1:]
+
+
+def with_asked(fields, i, asked):
+    """The fields, field i of them asked so often."""
+    return fields[:i] + [Field(fields[i].name, asked, fields[i].codes)] + fields[i + 1:]
+
+
+def with_only_code(fields, i, c):
+    """The fields, field i of them with its code c alone."""
+    return fields[:i] + [Field(fields[i].name, fields[i].asked, [fields[i].codes[c]])] + fields[i + 1:]

@@ -3,6 +3,8 @@
 A row of the table has a number for each number of holes from 0 to the file's, or None where nothing fits.
 """
 
+from notchplan.model import CardFile, with_only_code
+
 
 def table(file):
     """The table's rows: one for each field and one behind them."""
@@ -41,6 +43,11 @@ def curve(file):
     return table(file)[0]
 
 
+def least_cost(file):
+    """What the least plan costs; None if no plan fits."""
+    return curve(file)[file.holes]
+
+
 def least_plan(file):
     """The first of the plans of least cost; None if no plan fits."""
     rows = table(file)
@@ -55,6 +62,14 @@ def least_plan(file):
         plan.append(chosen)
         holes -= field.codes[chosen].holes
     return plan
+
+
+def least_plan_with(file, i, c):
+    """The first of the plans of least cost that have code c for field i; None if none of these fits."""
+    plan = least_plan(CardFile(file.holes, with_only_code(file.fields, i, c)))
+    if plan is None:
+        return None
+    return plan[:i] + [c] + plan[i + 1:]
 
 
 def least_count(file):

@@ -30,11 +30,25 @@ class NotAPlan(Refusal):
         Refusal.__init__(self, -4)
 
 
+class NotLabels(Refusal):
+    """A row is not as many numbers as the table has, or has one that is too small or too great."""
+
+    def __init__(self):
+        Refusal.__init__(self, -4)
+
+
 class NotThere(Refusal):
     """There is no such field or code."""
 
     def __init__(self):
         Refusal.__init__(self, -5)
+
+
+class NeverAsked(Refusal):
+    """All fields together are asked 0 times."""
+
+    def __init__(self):
+        Refusal.__init__(self, -7)
 
 
 class Fault(Refusal):

@@ -1,10 +1,9 @@
 """least, curve, count and check: the edges by hand, small files against all their plans, and the greatest file."""
 
 import math
-import signal
 import unittest
 
-from helper import CHECK, COUNT, CURVE, FILE, LEAST, PUT, Small, ask, last, small_files
+from helper import CHECK, COUNT, CURVE, FILE, LEAST, PUT, Prompt, Small, ask, last, small_files
 
 
 class ByHand(unittest.TestCase):
@@ -87,9 +86,7 @@ class AgainstAllPlans(unittest.TestCase):
     def test_least(self):
         for small in self.files:
             with self.subTest(text=small.text()):
-                least = small.least_plans()
-                answer = [1, small.cost(least[0]), len(small.fields)] + least[0] if least else [0]
-                self.assertEqual(last((FILE, small.text()), (LEAST,)), answer)
+                self.assertEqual(last((FILE, small.text()), (LEAST,)), small.told(small.fitting()))
 
     def test_count(self):
         for small in self.files:
@@ -113,7 +110,7 @@ class AgainstAllPlans(unittest.TestCase):
     def test_promise_1_no_plan_that_fits_costs_less(self):
         for small in self.files:
             told = last((FILE, small.text()), (LEAST,))
-            fitting = [plan for plan in small.plans() if small.taken(plan) <= small.holes]
+            fitting = small.fitting()
             self.assertEqual(told[0] == 1, len(fitting) > 0)
             self.assertTrue(all(told[1] <= small.cost(plan) for plan in fitting))
             if fitting:
@@ -129,33 +126,17 @@ class AgainstAllPlans(unittest.TestCase):
                 self.assertGreaterEqual(last((FILE, more.text()), (LEAST,))[1], fitting[-1])
 
 
-class Greatest(unittest.TestCase):
-    """Files at the document's limits. Going through their plans one by one would not end: an alarm stops that."""
-
-    def setUp(self):
-        self.before = signal.signal(signal.SIGALRM, self.too_long)
-        signal.alarm(60)
-
-    def tearDown(self):
-        signal.alarm(0)
-        signal.signal(signal.SIGALRM, self.before)
-
-    def too_long(self, number, frame):
-        raise TimeoutError("not answered promptly")
-
-    def put_all(self, small):
-        lines = small.text().split("\n")
-        # One text has at most 2000 bytes, so the half of the lines is put behind it.
-        return [(FILE, "\n".join(lines[:46]))] + [(PUT, line) for line in lines[46:]]
+class Greatest(Prompt):
+    """Files at the document's limits. Going through their plans one by one would not end."""
 
     def test_all_plans_cost_the_most(self):
         small = Small(60, [(1000, [(0, 1000000)] * 8)] * 10)
-        told = ask(*self.put_all(small), (LEAST,), (CURVE,), (COUNT,), (CHECK, [7] * 10))
+        told = ask(*small.calls(), (LEAST,), (CURVE,), (COUNT,), (CHECK, [7] * 10))
         self.assertEqual(told[-4:], [[1, 10 ** 10, 10] + [0] * 10, [61] + [10 ** 10] * 61, [8 ** 10], [1, 0, 10 ** 10]])
 
     def test_a_code_of_more_holes_costs_less(self):
         small = Small(60, [(1000, [(holes, 1000000 - 1000 * holes) for holes in range(8)])] * 10)
-        told = ask(*self.put_all(small), (LEAST,), (CURVE,), (COUNT,), (CHECK, [7] * 10))
+        told = ask(*small.calls(), (LEAST,), (CURVE,), (COUNT,), (CHECK, [7] * 10))
         # The holes that are left over to 7 for each field are 10 together, none of them more than 7.
         count = math.comb(19, 9) - 10 * math.comb(11, 9)
         self.assertEqual(told[-4:], [[1, 10 ** 10 - 60 * 10 ** 6, 10, 0, 4] + [7] * 8,
@@ -164,15 +145,8 @@ class Greatest(unittest.TestCase):
 
     def test_no_plan_fits(self):
         small = Small(60, [(1000, [(60, 1000000)] * 8)] * 10)
-        told = ask(*self.put_all(small), (LEAST,), (CURVE,), (COUNT,), (CHECK, [0] * 10))
+        told = ask(*small.calls(), (LEAST,), (CURVE,), (COUNT,), (CHECK, [0] * 10))
         self.assertEqual(told[-4:], [[0], [61] + [-1] * 61, [0], [0, 600, 10 ** 10]])
-
-    def test_a_hundred_calls(self):
-        small = Small(60, [(1000, [(holes, 1000000 - 1000 * holes) for holes in range(8)])] * 10)
-        calls = self.put_all(small)
-        calls += [(LEAST,), (COUNT,)] * ((100 - len(calls)) // 2)
-        told = ask(*calls)
-        self.assertEqual(told[-2:], told[46:48])
 
 
 if __name__ == "__main__":
